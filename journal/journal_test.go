@@ -129,6 +129,48 @@ func TestOpenRefuses(t *testing.T) {
 	}
 }
 
+// P4.2, P4.3: a new log has no records, whatever stands there, and its first one is written over that.
+func TestNewHasNoRecords(t *testing.T) {
+	d := disk(t, 10)
+	old := open(t, d, 2, 9, 5)
+	tells(t, "Append", old.Append([]byte("old")), api.OK)
+	tells(t, "Append", old.Append(nil), api.OK)
+	was := image(t, d)
+	l, e := New(d, 2, 9, 5)
+	tells(t, "New", e, api.OK)
+	holds(t, "a new one", l, 7)
+	same(t, "the disk", image(t, d), was)
+	tells(t, "Append", l.Append(filled(100)), api.OK)
+	holds(t, "behind the first", l, 4, filled(100))
+	holds(t, "opened", open(t, d.Restart(nil), 2, 9, 5), 4, filled(100))
+	d.Arm(1)
+	tells(t, "Flush", d.Flush(), api.ErrDead)
+	l, e = New(d, 2, 9, 5)
+	tells(t, "New of a dead one, which reads nothing", e, api.OK)
+	tells(t, "Append", l.Append(nil), api.ErrDead)
+	holds(t, "behind it", l, 7)
+}
+
+// P4.1
+func TestNewRefuses(t *testing.T) {
+	for _, c := range []struct {
+		d        *device.Disk
+		from, to int
+	}{
+		{nil, 0, 0},
+		{disk(t, 9), -1, 3},
+		{disk(t, 9), math.MinInt, math.MaxInt},
+		{disk(t, 9), 4, 3},
+		{disk(t, 9), 0, 10},
+		{disk(t, 9), 10, 10},
+		{new(device.Disk), 0, 1},
+	} {
+		if l, e := New(c.d, c.from, c.to, 1); l != nil || e != api.ErrArg {
+			t.Errorf("New(%v, %d, %d): %v, %v", c.d, c.from, c.to, l, e)
+		}
+	}
+}
+
 // P4.1
 func TestOpenTellsTheErrorOfARead(t *testing.T) {
 	d := disk(t, 9)

@@ -592,6 +592,70 @@ func TestKeepGoesOnBehindAGreatEpoch(t *testing.T) {
 	holds(t, "opened", open(t, d.Restart(nil), 3), math.MaxUint64, "last", "r")
 }
 
+// P5.3: of the next epoch records stand in the log's sectors already, whoever laid them.
+func TestKeepTellsNoRecordsThatStandThere(t *testing.T) {
+	for _, laid := range [][]string{{""}, {"r"}, {"r", "s"}, {string(filled(315))}} {
+		d := disk(t, 12)
+		x := open(t, d, 2)
+		tells(t, "Append", x.Append([]byte("old")), api.OK)
+		l, e := journal.Open(d, 6, 12, 2)
+		tells(t, "Open", e, api.OK)
+		for _, s := range laid {
+			tells(t, "Append of somebody else", l.Append([]byte(s)), api.OK)
+		}
+		want := image(t, d)
+		tells(t, "Keep", x.Keep([]byte("b")), api.OK)
+		holds(t, "behind Keep", x, 2, "b")
+		want[0], want[2] = sector(2, 1, 2, 1, 1), sector('b')
+		same(t, "the disk", image(t, d), want)
+		holds(t, "opened", open(t, d.Restart(nil), 2), 2, "b", laid...)
+		tells(t, "Keep", x.Keep([]byte("c")), api.OK)
+		holds(t, "behind the second", x, 3, "c")
+		holds(t, "opened behind the second", open(t, d.Restart(nil), 2), 3, "c")
+	}
+}
+
+// P5.2, P5.3: what is put behind such a state is the log's first record, at its first place, and has all its room.
+func TestAppendBehindKeepIsTheFirst(t *testing.T) {
+	for _, c := range []struct{ laid, first, second string }{
+		{"r", "x", "y"},
+		{"", string(filled(252)), ""},
+		{string(filled(315)), "x", string(filled(189))},
+		{string(filled(315)), string(filled(189)), "y"},
+	} {
+		d := disk(t, 12)
+		one, two := open(t, d, 2), open(t, d, 2)
+		tells(t, "Keep of one", one.Keep([]byte("a")), api.OK)
+		tells(t, "Append of one", one.Append([]byte(c.laid)), api.OK)
+		tells(t, "Keep of two", two.Keep([]byte("b")), api.OK)
+		holds(t, "behind Keep", two, 2, "b")
+		tells(t, "Append of too much", two.Append(filled(316)), api.ErrFull)
+		tells(t, "Append", two.Append([]byte(c.first)), api.OK)
+		holds(t, "behind the first", two, 2, "b", c.first)
+		s, e := d.Read(6)
+		if want := sector(append([]byte{1}, fields.Put(2, 0, uint64(len(c.first)))...)...); e != api.OK || !bytes.Equal(s, want) {
+			t.Errorf("the first one's head is %v, want %v", s, want)
+		}
+		tells(t, "Append", two.Append([]byte(c.second)), api.OK)
+		holds(t, "behind the second", two, 2, "b", c.first, c.second)
+		holds(t, "opened", open(t, d.Restart(nil), 2), 2, "b", c.first, c.second)
+	}
+}
+
+// P5.3: a Keep that is stopped leaves the twin's records, whatever stands there of the next epoch.
+func TestKeepThatIsStoppedLeavesTheRecords(t *testing.T) {
+	for stop := 1; stop <= 4; stop++ {
+		d := disk(t, 12)
+		one, two := open(t, d, 2), open(t, d, 2)
+		tells(t, "Append of two", two.Append([]byte("old")), api.OK)
+		tells(t, "Keep of one", one.Keep([]byte("a")), api.OK)
+		tells(t, "Append of one", one.Append([]byte("r")), api.OK)
+		d.Arm(stop)
+		tells(t, "Keep of two", two.Keep([]byte("b")), api.ErrDead)
+		holds(t, "behind it", two, 1, "", "old")
+	}
+}
+
 // P5.4
 func TestTheOneThatAStopFellIntoMayBeThere(t *testing.T) {
 	d := disk(t, 12)
